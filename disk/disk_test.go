@@ -656,7 +656,7 @@ func TestDrawnCalls(t *testing.T) {
 	}
 }
 
-// All ways through a few calls, with all crashes behind them.
+// All ways of up to five of eight calls, each with crashes behind it: by all choices of the changes, and by some of the bytes.
 func TestAllShortWays(t *testing.T) {
 	calls := []deed{{what: "Create", name: "a"}, {what: "Create", name: "b"}, {what: "Append", name: "a", bytes: "12"}, {what: "Sync", name: "a"},
 		{what: "Rename", name: "a", to: "b"}, {what: "Rename", name: "b", to: "a"}, {what: "Remove", name: "a"}, {what: "SyncDir"}}
