@@ -111,13 +111,13 @@ func (l *Log) begin(first int) api.Errno {
 
 // ready sees to it that a record may follow in the last segment: where it is torn, what follows would never be found again.
 func (l *Log) ready() api.Errno {
-	full := l.size > api.SegBytes
+	full := l.size > api.SegBytes && len(l.d.Names()) < api.MaxFiles-leftNames
 	if l.torn && !full {
 		if e := l.mend(); e != api.ErrDiskFull {
 			return e
 		}
 	}
-	if l.torn || full && len(l.d.Names()) < api.MaxFiles-leftNames {
+	if l.torn || full {
 		return l.roll()
 	}
 	return api.OK

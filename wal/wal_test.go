@@ -543,7 +543,9 @@ func TestFewNames(t *testing.T) {
 	ok(t, d.Remove("other1"))
 	appended(t, l, 4, "b")
 	ok(t, l.Cut(3))
-	opened(t, d.Clone(), 4, "b")
+	opened(t, d.Clone(), 4, big, big, "a", "b")
+	ok(t, l.Cut(4))
+	opened(t, d.Clone(), 4)
 
 	// Then a file may be long, but it is gone when all is cut, though none of its records was safe.
 	d = newDisk(t, api.MaxRoom)
@@ -567,6 +569,25 @@ func TestFewNames(t *testing.T) {
 	appended(t, l, 1, "a")
 	ok(t, l.Sync())
 	opened(t, crashed(d), 1, "a")
+}
+
+// A log that is torn again and again, with much that is safe between, takes the last names from nobody.
+func TestTornOftenFewNames(t *testing.T) {
+	d := newDisk(t, api.MaxRoom)
+	others(t, d, 55)
+	var want []string
+	for i := range 30 {
+		l := opened(t, d, len(want), want...)
+		want = append(want, strings.Repeat("x", 17000+i))
+		appended(t, l, i+1, want[i])
+		ok(t, l.Sync())
+		appended(t, l, i+2, "lost")
+		ok(t, d.Crash(slices.Repeat([]int{5}, 100)...))
+		if n := len(d.Names()); n > api.MaxFiles-leftNames {
+			t.Fatalf("%d names behind %d crashes", n, i+1)
+		}
+	}
+	opened(t, d, len(want), want...)
 }
 
 // Two logs on two disks know nothing of one another, and a clone goes on by itself.
